@@ -1,0 +1,1 @@
+"""Manrods: a mine whose two rods lift its men and its water."""

@@ -1,0 +1,140 @@
+"""What the tests share: examples as the document writes them, lists for tuples, shafts."""
+
+import copy
+import itertools
+import random
+
+from manrods.errors import BadLine, CanNot, NoPlace, NothingDone, TooMuch, Unfit
+
+ERRORS = {
+    "NoPlace": NoPlace, "NothingDone": NothingDone, "BadLine": BadLine,
+    "CanNot": CanNot, "TooMuch": TooMuch, "Unfit": Unfit,
+}
+
+
+def listed(value):
+    """The value with a list in the place of each tuple."""
+    if isinstance(value, (list, tuple)):
+        return [listed(part) for part in value]
+    return value
+
+
+def same(one, two):
+    """Whether both are equal, True and 1, lists and tuples being unlike at any depth."""
+    if type(one) is not type(two):
+        return False
+    if isinstance(one, (list, tuple)):
+        return len(one) == len(two) and all(same(a, b) for a, b in zip(one, two))
+    return one == two
+
+
+def run_examples(case, text, names):
+    """Run rows behind >>> one by one; the row behind each one is its value, or what it raises."""
+    rows = [row.strip() for row in text.strip().split("\n")]
+    at = 0
+    while at < len(rows):
+        case.assertTrue(rows[at].startswith(">>> "), rows[at])
+        code = rows[at][4:]
+        at += 1
+        told = None
+        if at < len(rows) and not rows[at].startswith(">>> "):
+            told = rows[at]
+            at += 1
+        with case.subTest(row=code):
+            run_example(case, code, told, names)
+
+
+def run_example(case, code, told, names):
+    """Run one row: an assignment, a value, or an error with the attributes that it keeps."""
+    if told is None:
+        exec(code, names)
+        return
+    if not told.startswith("raises "):
+        expected, found = eval(told, names), eval(code, names)
+        case.assertTrue(same(found, expected), (code, found, expected))
+        return
+    name, kept = told[len("raises "):].rstrip(")").split("(")
+    with case.assertRaises(ERRORS[name]) as caught:
+        eval(code, names)
+    attributes = dict([part.split("=") for part in kept.split(", ")]) if kept else {}
+    case.assertEqual(vars(caught.exception), {key: eval(word) for key, word in attributes.items()})
+
+
+def outcome(call, *args, **named):
+    """What the call returns, or which error it raises with which attributes."""
+    try:
+        return ("value", call(*args, **named))
+    except tuple(ERRORS.values()) as error:
+        return ("error", type(error).__name__, vars(error))
+
+
+def check_manners(case, call, named, things=()):
+    """Check what [2] says of all calls; things are the names of the arguments that stay as they are.
+
+    By name and by place the same comes out, lists and tuples in one another's place too; arguments
+    stay as they were; a list that is returned is another one at each call.
+    """
+    first = outcome(call, **named)
+    kept = copy.deepcopy(named)
+    case.assertTrue(same(outcome(call, **named), first))
+    case.assertTrue(same(outcome(call, *named.values()), first))
+    lists = {name: value if name in things else listed(value) for name, value in named.items()}
+    lists_kept = copy.deepcopy(lists)
+    case.assertTrue(same(outcome(call, **lists), first), (call.__name__, outcome(call, **lists), first))
+    case.assertTrue(same(named, kept), call.__name__)
+    case.assertTrue(same(lists, lists_kept), call.__name__)
+    if first[0] == "value" and isinstance(first[1], list):
+        again = call(**named)
+        case.assertIsNot(again, first[1])
+        again.append("spoilt")
+        case.assertTrue(same(outcome(call, **named), first))
+
+
+ODD_THINGS = (
+    None, True, False, 0, 1, -1, 7, 10 ** 30, "", "grass", "rod", (), [], ((),), ([],), (None,), (1,), (1, 2), (1, 2, 3),
+    (1, 2, 3, 4), [1, 2, 3], (True, False), (True, 1, 0), ("a", "b"), ("a", "b", "c"), ((1, 2), (3, 4)), (((1,),),),
+    ((), ()), ((), (), ()), ((), (), True, 1), (None, None), ("rod", 0, 1), ("lost",), ("aside", 1),
+)
+
+
+def deep_thing(depth):
+    """A tuple nested so deep."""
+    thing = ()
+    for _ in range(depth):
+        thing = (thing,)
+    return thing
+
+
+def spoilt(thing):
+    """All values that differ from thing in one place: another value there, a place less, one more, a list."""
+    if isinstance(thing, tuple):
+        yield list(thing)
+        yield thing + (thing[-1] if thing else 0,)
+        for at, part in enumerate(thing):
+            yield thing[:at] + thing[at + 1:]
+            for other in spoilt(part):
+                yield thing[:at] + (other,) + thing[at + 1:]
+    for other in (None, True, False, -1, "x", 10 ** 20, (), ("x",)):
+        if not same(other, thing):
+            yield other
+
+
+def shaft_of(deep, wide, room=40):
+    """A SHAFT with the same room at each level."""
+    return (deep, wide, (room,) * (deep + 1))
+
+
+def all_rides(deep, readies):
+    """The list of all RIDES with these readies."""
+    levels = range(deep + 1)
+    return [(a, b, n) for a, b, n in itertools.product(levels, levels, readies) if a != b]
+
+
+def random_book(dice, deep, many, last):
+    """A BOOK of so many RIDES, ready from 0 to last."""
+    return tuple([(*dice.sample(range(deep + 1), 2), dice.randint(0, last)) for _ in range(many)])
+
+
+def dice_of(word):
+    """Dice that fall alike each time."""
+    return random.Random(word)

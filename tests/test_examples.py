@@ -1,0 +1,148 @@
+"""The examples of the document, as they stand there, sections 4 to 10."""
+
+import unittest
+
+from helpers import run_examples
+
+IMPORTS = (
+    ("shafts", "is_shaft is_platform platforms rising_rod falling_rod faced_level facing_platform level_behind"
+               " riser_platform sinker_platform stride_of stride_platforms goes_with"),
+    ("rides", "is_ride is_book is_riser strokes_of mark_of board_of colour_of end_of level_at platform_at ridden"
+              " passes first_marks later_book turned_book"),
+    ("meetings", "meeting passing clash meetings clashes web meeting_gaps stream_meetings"),
+    ("dances", "is_lane lane_behind lane_stays lane_end fates dance_rows nobody_barred is_bar first_bar"),
+    ("waits", "is_waits waited_book hinder is_free companies free_ready colour_sum least_waits"),
+    ("rests", "is_crowd first_crowd wanted ready_crowd carried soaked crowd_behind barred"),
+    ("menruns", "is_day made_behind crowd_rows crowd_far day_round comes all_come lost_by barred_rows late_by"),
+)
+
+SECTION_4 = r"""
+    >>> shaft = (4, True, (0, 2, 2, 2, 2))
+    >>> platforms(shaft)
+    ((0, 0), (0, 1), (0, 2), (0, 3), (1, 1), (1, 2), (1, 3), (1, 4))
+    >>> rising_rod(0), falling_rod(0), rising_rod(7), faced_level((0, 2), 4), faced_level((0, 2), 5), faced_level((1, 2), 5)
+    (1, 0, 0, 2, 3, 1)
+    >>> facing_platform(shaft, 0, 3, 1), level_behind(1, 3, 0), level_behind(1, 3, 1)
+    ((0, 2), 2, 4)
+    >>> riser_platform(shaft, 3, 0), riser_platform(shaft, 3, 1), sinker_platform(shaft, 2, 0), sinker_platform(shaft, 2, 1)
+    ((1, 3), (0, 2), (0, 2), (1, 3))
+    >>> stride_of((1, 3)), stride_platforms(shaft, 2), goes_with((0, 2), 0), goes_with((0, 2), 1)
+    (2, ((0, 2), (1, 3)), 1, -1)
+    >>> is_shaft((4, 1, (0, 2, 2, 2, 2))), is_platform((1, 0), shaft)
+    (False, False)
+    >>> facing_platform(shaft, 0, 0, 1)
+    raises NoPlace(place=0)
+"""
+
+SECTION_5 = r"""
+    >>> up, down = (4, 1, 2), (0, 3, 1)
+    >>> is_riser(up), strokes_of(down), mark_of(up, 2), mark_of(down, 1), mark_of((3, 4, 0), 1), board_of(up, 6), colour_of(-3)
+    (True, 3, 6, 1, -2, 2, 1)
+    >>> end_of(up, 2), [level_at(up, 2, made) for made in (0, 2, 4, 9)], platform_at(shaft, up, 2, 3), platform_at(shaft, up, 2, 5)
+    (5, [4, 4, 2, 1], (0, 2), None)
+    >>> ridden(shaft, up, 2), ridden(shaft, down, 1)
+    ([(1, 4), (0, 2), (1, 2)], [(1, 1), (0, 1), (1, 3)])
+    >>> passes(up, 0), passes(up, 3), first_marks((up, down)), later_book((up,), 5), turned_book((up, down))
+    (False, True, [6, 1], ((4, 1, 7),), ((1, 4, 5), (3, 0, 4)))
+    >>> is_ride((2, 2, 0), shaft), is_book((up, (4, 5, 0)), shaft)
+    (False, False)
+    >>> board_of(up, 3)
+    raises Unfit()
+"""
+
+SECTION_6 = r"""
+    >>> up, down, late = (4, 0, 0), (0, 4, 0), (0, 4, 1)
+    >>> meeting(up, down), passing(up, down), meeting(late, up), passing(late, up)
+    ((2, 2), None, None, (2, 1))
+    >>> clash(up, (3, 1, 1)), clash((3, 1, 1), (2, 0, 2)), clash((3, 1, 1), (1, 0, 3)), clash(down, late), clash(up, up)
+    ((1, 3), (2, 2), None, None, (0, 4))
+    >>> meetings((up, down, late)), web((up, down, late)), clashes((up, down, late))
+    ([(2, 2, 0, 1)], ((0, 1), (0, 2)), [])
+    >>> meeting_gaps(up, down), meeting_gaps((4, 2, 0), (1, 4, 0)), meeting_gaps((2, 0, 0), (3, 4, 0))
+    ((-2, 0, 2), (1,), ())
+    >>> stream_meetings((4, 0, 0, 2, 10 ** 12), (0, 4, 0, 2, 10 ** 12)), stream_meetings((4, 0, 0, 3, 4), (0, 4, 0, 2, 5))
+    (2999999999998, 5)
+"""
+
+SECTION_7 = r"""
+    >>> narrow, wide, crowd = (4, False, (0,) * 5), (4, True, (0,) * 5), ((4, 0, 0), (0, 4, 0), (4, 0, 2), (4, 0, 3))
+    >>> lane_behind(narrow, (4, None, None, 0), 0, 1), lane_behind(wide, (None, 4, 0, None), 0, 2), lane_stays(narrow, (3, 0, 4, 1))
+    ((None, 4, 0, None), (None, 0, 4, None), True)
+    >>> lane_end(narrow, (4, None, None, 0), 0, 1)
+    (2, (None, 4, 0, None))
+    >>> fates(narrow, crowd), dance_rows(narrow, crowd), fates(wide, crowd)[2]
+    ((('dance', 1, 2), ('dance', 1, 1), ('dance', 2, 3), ('home', 7)), [(0, 1, (1, 0, 2))], ('home', 6))
+    >>> first_bar(narrow, crowd), is_bar(narrow, crowd, (2, 0, 10 ** 9 + 1)), is_bar(narrow, crowd, (2, 0, 10 ** 9))
+    ((0, 1, 2), True, False)
+    >>> fates(narrow, ((4, 0, 0), (0, 4, 0), (4, 0, 1), (0, 4, 1), (3, 1, 9)))[4], first_bar(wide, ((4, 0, 0), (3, 1, 1)))
+    (('waits',), (1, 0, 1))
+"""
+
+SECTION_8 = r"""
+    >>> deep, pair = (6, False, (0, 0, 0, 0, 0, 0, 0)), ((4, 0, 0), (0, 4, 0))
+    >>> hinder(narrow, pair[0], pair[1]), hinder(wide, pair[0], pair[1]), is_free(narrow, waited_book(pair, (0, 1))), is_waits((0, -1), pair)
+    (True, False, True, False)
+    >>> some = ((4, 1, 0), (0, 3, 0), (2, 4, 1), (1, 0, 9))
+    >>> companies(narrow, some), companies(wide, some), free_ready(narrow, ((0, 4, 0), (0, 4, 1)), (4, 0, 0))
+    ([(0, 1, 2), (3,)], [(0,), (1, 2), (3,)], 4)
+    >>> late = ((4, 0, 0), (0, 4, 3), (0, 4, 5), (0, 4, 7), (0, 2, 2))
+    >>> colour_sum(narrow, late), least_waits(narrow, late), least_waits(narrow, pair)
+    (4, (0, 0, 0, 0, 2), (0, 1))
+    >>> six = ((6, 0, 0), (6, 0, 1), (6, 0, 2), (0, 6, 5))
+    >>> colour_sum(deep, six), least_waits(deep, six)
+    (3, (0, 0, 0, 2))
+"""
+
+SECTION_9 = r"""
+    >>> narrow, wide = (4, False, (0, 0, 0, 0, 2)), (4, True, (0, 0, 0, 0, 2))
+    >>> pair = first_crowd(((4, 0, 0), (0, 4, 0)))
+    >>> pair, wanted(narrow, 0, pair, 0)
+    (((('aside', 4), ('grass',)), ((0, 0), (4, 0))), (1, 4))
+    >>> one = crowd_behind(narrow, 0, True, pair, (), True, 5)
+    >>> two = crowd_behind(narrow, 1, True, one, (), True, 5)
+    >>> one[0], two[0], soaked(one, 3)
+    ((('rod', 1, 3), ('rod', 0, 1)), (('rod', 0, 2), ('rod', 1, 2)), ((('lost',), ('rod', 0, 1)), (None, (4, 0))))
+    >>> barred(narrow, 2, True, two, ()), crowd_behind(narrow, 2, True, two, (), True, 5)[0], ready_crowd(wide, 2, False, two, ())[0]
+    ((0, 1), (('rod', 0, 3), ('rod', 1, 1)), (('rod', 1, 2), ('rod', 0, 2)))
+    >>> rung = (two[0], ((0, 0), (0, 2)))
+    >>> ready_crowd(wide, 2, True, rung, ())[0], ready_crowd(wide, 2, False, rung, ()) == rung, barred(narrow, 2, True, rung, ())
+    ((('rod', 1, 2), ('rod', 0, 2)), True, (0,))
+    >>> full = ((('rod', 0, 2), ('aside', 4)), ((2, 0), (0, 3)))
+    >>> ready_crowd(narrow, 2, True, full, ()) == full, carried(2, full)[0], ready_crowd(narrow, 4, True, full, ((0, 2),))[0]
+    (True, (('rod', 0, 3), ('aside', 4)), (('lost',), ('rod', 1, 4)))
+    >>> is_crowd(two, narrow, 2), is_crowd(((('rod', 0, 4),), ((0, 0),)), narrow, 2)
+    (True, False)
+    >>> wanted(narrow, 0, pair, 2)
+    raises NoPlace(place=2)
+"""
+
+SECTION_10 = r"""
+    >>> hoist, calm = ((4, 0, 0), (0, 4, 0)), ((), (), True, 5)
+    >>> crowd_rows(narrow, hoist, (calm,), 3)[3][0], day_round(narrow, hoist, (calm,)), crowd_far(narrow, hoist, (calm,), 10 ** 12)[0]
+    ((('rod', 0, 3), ('rod', 1, 1)), (2, 2), (('rod', 0, 2), ('rod', 1, 2)))
+    >>> comes(wide, hoist, (calm,), 0, 9), all_come(narrow, hoist, (calm,), 50), day_round(wide, hoist, (calm,)), late_by(wide, hoist, (calm,), 9)
+    (5, None, (5, 2), (0, 0))
+    >>> bell = (calm, calm, (((0, 0), (1, 0)), (), True, 5))
+    >>> all_come(wide, hoist, bell, 9), comes(narrow, hoist, bell, 1, 9), late_by(narrow, hoist, bell, 9), barred_rows(narrow, hoist, bell, 9)
+    (7, 5, (2, 0), [(2, 0)])
+    >>> halt = (((), (), False, 5), calm)
+    >>> made_behind(halt, 10), comes(wide, hoist, halt, 0, 9), lost_by(narrow, hoist, (((), (), True, 3),), 1), is_day((calm, ((), (), 1, 5)), wide, hoist)
+    (9, 6, (0,), False)
+    >>> comes(wide, hoist, (calm,), 2, 9)
+    raises NoPlace(place=2)
+"""
+
+
+class Examples(unittest.TestCase):
+    """Names of an example are those of the nearest one before that sets them, so all share them."""
+
+    def test_examples(self):
+        names = {}
+        for file, words in IMPORTS:
+            exec(f"from manrods.{file} import {', '.join(words.split())}", names)
+        for text in (SECTION_4, SECTION_5, SECTION_6, SECTION_7, SECTION_8, SECTION_9, SECTION_10):
+            run_examples(self, text, names)
+
+
+if __name__ == "__main__":
+    unittest.main()

@@ -1,0 +1,163 @@
+"""The files of the package keep to the small part of the language in which it is written."""
+
+import ast
+import builtins
+import os
+import re
+import unittest
+
+PACKAGE = os.path.join(os.path.dirname(os.path.abspath(__file__)), "..", "manrods")
+
+LIBRARY = {"math": ("gcd", "lcm", "isqrt", "comb", "perm", "factorial")}
+BUILTINS = set((
+    "len range enumerate zip min max sum abs sorted reversed int str bool list tuple dict set isinstance ord repr any all"
+    " divmod ValueError KeyError IndexError LookupError ZeroDivisionError TypeError").split())
+METHODS = set((
+    "append clear copy count endswith extend find get index insert isalnum isalpha isdigit islower isspace isupper items join"
+    " keys ljust lower lstrip partition pop remove replace reverse rfind rjust rpartition rsplit rstrip setdefault split"
+    " splitlines startswith strip update upper values zfill bit_length add discard").split())
+WORDS_NOT_USED = set((
+    "type typing enum Enum Flag Generic Protocol ABC namedtuple NamedTuple TypedDict abstractmethod dataclass overload"
+    " contextmanager register mro elements open input law eval exec compile globals locals vars dir exit quit help license"
+    " async await global lambda").split())
+STATEMENTS = (
+    ast.Assign, ast.AugAssign, ast.If, ast.While, ast.For, ast.Return, ast.Break, ast.Continue, ast.Pass, ast.Raise, ast.Expr,
+    ast.FunctionDef, ast.ClassDef, ast.ImportFrom, ast.Try, ast.Delete, ast.Assert)
+OTHERS = (ast.Div, ast.GeneratorExp, ast.Lambda, ast.NamedExpr, ast.Set, ast.SetComp, ast.Yield, ast.YieldFrom, ast.AnnAssign)
+
+
+def files():
+    return sorted(name for name in os.listdir(PACKAGE) if name != "__pycache__")
+
+
+def text_of(name):
+    with open(os.path.join(PACKAGE, name), encoding="utf-8") as file:
+        return file.read()
+
+
+def stored_names(tree):
+    """All names that the file gives: of functions, classes, parameters, variables, attributes."""
+    for node in ast.walk(tree):
+        if isinstance(node, (ast.FunctionDef, ast.ClassDef)):
+            yield node.name
+        elif isinstance(node, ast.arg):
+            yield node.arg
+        elif isinstance(node, ast.Name) and isinstance(node.ctx, ast.Store):
+            yield node.id
+
+
+class Language(unittest.TestCase):
+
+    def each_tree(self):
+        return [(name, ast.parse(text_of(name))) for name in files()]
+
+    def test_files(self):
+        for name in files():
+            self.assertRegex(name, r"^(__init__|[a-z][a-z0-9_]*)\.py$")
+            text = text_of(name)
+            self.assertTrue(all(" " <= sign <= "~" or sign == "\n" for sign in text), name)
+            rows = text.split("\n")
+            self.assertLessEqual(len(rows), 399, name)
+            self.assertLessEqual(max(len(row) for row in rows), 120, name)
+
+    def test_functions_are_short(self):
+        for name, tree in self.each_tree():
+            for node in ast.walk(tree):
+                if isinstance(node, ast.FunctionDef):
+                    self.assertLessEqual(node.end_lineno - node.lineno + 1, 40, (name, node.name))
+                    self.assertEqual(node.decorator_list, [], (name, node.name))
+                    self.assertIsNotNone(ast.get_docstring(node) or node.name == "__init__" or None, (name, node.name))
+
+    def test_imports(self):
+        for name, tree in self.each_tree():
+            bound = []
+            for node in ast.walk(tree):
+                if not isinstance(node, ast.ImportFrom):
+                    continue
+                self.assertIn(node, tree.body)
+                self.assertEqual(node.level, 0)
+                for alias in node.names:
+                    self.assertIsNone(alias.asname)
+                    bound.append(alias.name)
+                    if node.module in LIBRARY:
+                        self.assertIn(alias.name, LIBRARY[node.module])
+                        continue
+                    self.assertTrue(node.module.startswith("manrods."), node.module)
+                    own = ast.parse(text_of(node.module[len("manrods."):] + ".py"))
+                    given = [part.name for part in own.body if isinstance(part, (ast.FunctionDef, ast.ClassDef))]
+                    given += [part.targets[0].id for part in own.body if isinstance(part, ast.Assign)]
+                    self.assertIn(alias.name, given)
+            self.assertEqual(len(bound), len(set(bound)), name)
+            used = [node.id for node in ast.walk(tree) if isinstance(node, ast.Name)]
+            for word in bound:
+                self.assertTrue(word in used, (name, word, "is not used"))
+                self.assertNotIn(word, list(stored_names(tree)), name)
+
+    def test_module_level(self):
+        for name, tree in self.each_tree():
+            for node in tree.body:
+                self.assertIsInstance(node, (ast.Expr, ast.ImportFrom, ast.FunctionDef, ast.ClassDef, ast.Assign), name)
+                if isinstance(node, ast.Expr):
+                    self.assertIs(node, tree.body[0], name)
+                if isinstance(node, ast.Assign):
+                    self.assertEqual(len(node.targets), 1)
+                    ast.literal_eval(node.value)
+
+    def test_statements_and_expressions(self):
+        for name, tree in self.each_tree():
+            for node in ast.walk(tree):
+                self.assertNotIsInstance(node, OTHERS, (name, getattr(node, "lineno", None)))
+                if isinstance(node, ast.stmt):
+                    self.assertIsInstance(node, STATEMENTS, (name, node.lineno))
+                if isinstance(node, ast.Constant):
+                    self.assertIsInstance(node.value, (int, str, type(None)), (name, node.lineno))
+                    self.assertNotIn("%", str(node.value), (name, node.lineno))
+                if isinstance(node, ast.Compare):
+                    for sign, other in zip(node.ops, node.comparators):
+                        if isinstance(sign, (ast.Is, ast.IsNot)):
+                            self.assertIn(getattr(other, "value", 0), (None, True, False), (name, node.lineno))
+
+    def test_names(self):
+        for name, tree in self.each_tree():
+            functions = [node for node in ast.walk(tree) if isinstance(node, ast.FunctionDef)]
+            names = [word for word in stored_names(tree) if word != "__init__"]
+            given = set(names)
+            for word in names:
+                self.assertRegex(word, r"^(_|_?[A-Za-z][A-Za-z0-9_]*)$", name)
+                self.assertFalse(hasattr(builtins, word), (name, word))
+                self.assertNotIn(word, WORDS_NOT_USED, name)
+            for node in ast.walk(tree):
+                if isinstance(node, ast.ClassDef):
+                    self.assertRegex(node.name, r"^[A-Z]", name)
+                if isinstance(node, ast.ImportFrom):
+                    given.update(alias.name for alias in node.names)
+            for node in ast.walk(tree):
+                if isinstance(node, ast.Name) and node.id not in given:
+                    self.assertIn(node.id, BUILTINS, (name, node.lineno))
+            top = [node.name for node in tree.body if isinstance(node, (ast.FunctionDef, ast.ClassDef))]
+            self.assertEqual(len(top), len(set(top)), name)
+            for node in functions:
+                inner = [word for part in node.body for word in stored_names(part)]
+                own = inner + [argument.arg for argument in node.args.args]
+                for word in own:
+                    self.assertNotIn(word, top, (name, node.name, word))
+
+    def test_methods(self):
+        own = set()
+        for _, tree in self.each_tree():
+            for node in ast.walk(tree):
+                if isinstance(node, ast.ClassDef):
+                    own.update(part.name for part in node.body if isinstance(part, ast.FunctionDef))
+        for name, tree in self.each_tree():
+            for node in ast.walk(tree):
+                if isinstance(node, ast.Call) and isinstance(node.func, ast.Attribute):
+                    self.assertIn(node.func.attr, METHODS | own, (name, node.lineno))
+
+    def test_words(self):
+        for name in files():
+            for word in ("type", "typing", "enum", "dataclass", "overload", "contextmanager"):
+                self.assertIsNone(re.search(rf"\b{word}\b", text_of(name)), (name, word))
+
+
+if __name__ == "__main__":
+    unittest.main()
