@@ -31,7 +31,7 @@ def is_free(shaft, book):
     return not any([hinder(shaft, book[one], book[two]) for two in men for one in range(two)])
 
 
-def _hinder_gaps(shaft, ride, other):
+def hinder_gaps(shaft, ride, other):
     """The list of the differences of other's ready less ride's with which they hinder one another."""
     if is_riser(ride) == is_riser(other):
         if not share_stride(ride, other):
@@ -52,7 +52,7 @@ def _company_of(shaft, book, man):
     while new:
         one = new.pop()
         for two in range(len(book)):
-            if two not in found and _hinder_gaps(shaft, book[one], book[two]):
+            if two not in found and hinder_gaps(shaft, book[one], book[two]):
                 found.append(two)
                 new.append(two)
     return tuple(sorted(found))
@@ -118,7 +118,7 @@ def _barred_gaps(shaft, book):
         row = []
         for other in book:
             ahead = other[2] - ride[2]
-            row.append([gap + ahead for gap in _hinder_gaps(shaft, other, ride)])
+            row.append([gap + ahead for gap in hinder_gaps(shaft, other, ride)])
         table.append(row)
     return table
 

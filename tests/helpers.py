@@ -138,3 +138,91 @@ def random_book(dice, deep, many, last):
 def dice_of(word):
     """Dice that fall alike each time."""
     return random.Random(word)
+
+
+def random_waters(dice, deep, many, last):
+    """WATERS for deep of at most so many CISTERNS, rooms, springs and measures to last."""
+    levels = sorted(dice.sample(range(1, deep), min(deep - 1, dice.randint(0, many - 1))), reverse=True)
+    return tuple([
+        (level, dice.randint(0, last), dice.randint(0, last) if dice.random() < 0.7 else 0, dice.randint(1, last),
+         dice.randint(0, 1))
+        for level in (deep, *levels)])
+
+
+def random_held(dice, waters, last):
+    """HELD of waters, in the sump to last."""
+    return tuple([dice.randint(0, last if at == 0 else cistern[1]) for at, cistern in enumerate(waters)])
+
+
+def is_held_by_hand(waters, thing):
+    """Whether thing is HELD, told by hand."""
+    if type(thing) is not tuple or len(thing) != len(waters):
+        return False
+    for at, amount in enumerate(thing):
+        if type(amount) is not int or amount < 0 or at > 0 and amount > waters[at][1]:
+            return False
+    return True
+
+
+class WaterPlay:
+    """The water of rests by the words of [12], unit by unit of what is lifted, told or spilt."""
+
+    def __init__(self, waters, held):
+        self.waters, self.held, self.out, self.sprung = waters, list(held), 0, 0
+
+    def lift(self, rod, loose=(), leaks=None):
+        """What each lift brings if this rod rises; it is brought at once."""
+        brought = [0] * len(self.waters)
+        for at, (_, _, _, measure, own) in enumerate(self.waters):
+            if own != rod or at in loose:
+                continue
+            found = self.held[at] if self.held[at] < measure else measure
+            leak = leaks[at] if leaks else 0
+            if found > leak:
+                brought[at] = found - leak
+        for at, amount in enumerate(brought):
+            self.held[at] -= amount
+        for at, amount in enumerate(brought):
+            if at + 1 == len(self.waters):
+                self.out += amount
+            else:
+                self.held[at + 1] += amount
+        return tuple(brought)
+
+    def spring(self):
+        """Each CISTERN has its spring more."""
+        for at, cistern in enumerate(self.waters):
+            self.held[at] += cistern[2]
+            self.sprung += cistern[2]
+
+    def spill(self):
+        """What is above its room goes down, the topmost one first."""
+        for at in reversed(range(1, len(self.waters))):
+            while self.held[at] > self.waters[at][1]:
+                over = self.held[at] - self.waters[at][1]
+                self.held[at] -= over
+                self.held[at - 1] += over
+
+    def rest(self, rest, made, moved=True, loose=(), leaks=None):
+        """The water of a rest."""
+        if moved:
+            self.lift(1 if made % 2 == 0 else 0, loose, leaks)
+        if rest % 2 == 1:
+            self.spring()
+        self.spill()
+
+
+def plain_rows(waters, held, many):
+    """The list of HELD, and that of all that came out, behind 0 .. many rests of the plain run, by own play."""
+    play = WaterPlay(waters, held)
+    rows, outs = [tuple(play.held)], [0]
+    for rest in range(many):
+        play.rest(rest, rest)
+        rows.append(tuple(play.held))
+        outs.append(play.out)
+    return rows, outs
+
+
+def wet_by_hand(deep, per, held):
+    """The list of the levels that are drowned, told one by one."""
+    return [level for level in range(1, deep + 1) if held[0] >= per * (deep - level + 1)]

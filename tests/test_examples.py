@@ -1,4 +1,4 @@
-"""The examples of the document, as they stand there, sections 4 to 10."""
+"""The examples of the document, as they stand there, sections 4 to 15."""
 
 import unittest
 
@@ -14,6 +14,14 @@ IMPORTS = (
     ("waits", "is_waits waited_book hinder is_free companies free_ready colour_sum least_waits"),
     ("rests", "is_crowd first_crowd wanted ready_crowd carried soaked crowd_behind barred"),
     ("menruns", "is_day made_behind crowd_rows crowd_far day_round comes all_come lost_by barred_rows late_by"),
+    ("changes", "is_change is_plan book_end wide_end level_end least_plan in_turn staged_ends fewest_stages"),
+    ("waters", "is_waters is_held dry_held brings behind_rest held_rows adit_row behind_swing drowned_levels"
+               " way_out"),
+    ("cuts", "excesses is_roomy is_bounded growth greatest_cut is_cut flow_through is_flow outflow filled held_far"
+             " out_far swings_to"),
+    ("swapped", "is_flight narrow_of lag_of given_row given_in_all least_rooms gives_alike parting_comes"
+                " is_parting_comes flights_of measures_exchanged may_exchange"),
+    ("drowns", "drown_rest drown_rests driest dam_of is_dam lift_for cheapest_lift spring_for room_for"),
 )
 
 SECTION_4 = r"""
@@ -132,6 +140,78 @@ SECTION_10 = r"""
     raises NoPlace(place=2)
 """
 
+SECTION_11 = r"""
+    >>> change, both, two = ((2, 4, 4), (1, 3, 3)), ((4, 4), (4,)), ((4, 0, 0), (0, 4, 0))
+    >>> is_change(change, narrow), is_change(((4, 2), ()), narrow), wide_end(change), book_end(least_plan(narrow, change))
+    (True, False, 5, 6)
+    >>> [level_end(4, up, down) for up, down in ((0, 0), (1, 1), (10, 1))], level_end(1, 3, 2), level_end(4, 10 ** 12, 10 ** 12)
+    ([0, 5, 15], 3, 2000000000003)
+    >>> in_turn(narrow, both, (0, 1, 2)), in_turn(narrow, both, (0, 2, 1))
+    (((4, 0, 0), (4, 0, 1), (0, 4, 4)), ((4, 0, 0), (4, 0, 2), (0, 4, 1)))
+    >>> staged_ends(narrow, two, (2,)), staged_ends(narrow, two + ((0, 3, 1),), (2,)), fewest_stages(narrow, two)
+    ((4, 5), (4, 6, 4), (2,))
+    >>> staged_ends(narrow, two, (1,))
+    raises CanNot()
+"""
+
+SECTION_12 = r"""
+    >>> pit, calm = ((6, 0, 2, 3, 1), (4, 5, 1, 4, 0), (2, 6, 2, 4, 1)), ((6, 0, 2, 3, 1), (4, 5, 1, 4, 0))
+    >>> held_rows(pit, dry_held(pit), 5)[2:], adit_row(pit, dry_held(pit), 7)
+    ([(2, 1, 2), (0, 3, 0), (2, 1, 5), (0, 3, 1)], (0, 0, 2, 0, 4, 0, 4))
+    >>> brings(pit, (2, 1, 5), 4, (), (0, 0, 0)), brings(pit, (2, 1, 5), 4, (2,), (1, 0, 0)), behind_rest(pit, (0, 3, 2), 7, 7, True, (), (0, 0, 0))
+    ((2, 0, 4), (1, 0, 0), ((2, 2, 6), 0))
+    >>> behind_rest(pit, (0, 3, 2), 7, 6, False, (), (0, 0, 0)), behind_rest(pit, (2, 4, 6), 12, 12, True, (), (0, 0, 0))
+    (((2, 4, 4), 0), ((1, 5, 2), 4))
+    >>> behind_swing(calm, (2, 1)), drowned_levels(6, 2, (5, 0, 0)), is_held(pit, (9, 5, 7)), [way_out(pit, number) for number in range(3)]
+    (((2, 1), 3), (5, 6), False, [4, 4, 2])
+    >>> way_out(pit, 3)
+    raises NoPlace(place=3)
+"""
+
+SECTION_13 = r"""
+    >>> excesses(pit), is_roomy(pit), is_bounded(pit), growth(pit), greatest_cut(pit), is_cut(pit, 2), is_cut(pit, 1), outflow(pit)
+    ((-1, -1, 1), True, False, 1, 2, True, False, 4)
+    >>> flow_through(calm), is_flow(calm, (2, 3)), is_flow(calm, (2, 2)), is_flow(pit, (2, 3, 4)), filled(pit), filled(calm)
+    ((2, 3), True, False, False, (6, 1), (1, 0))
+    >>> held_far(pit, 10 ** 12) == (10 ** 12 - 4, 4, 6), out_far(pit, 10 ** 12) == 4 * 10 ** 12 - 6, held_far(pit, 6), swings_to(pit, 5), swings_to(calm, 3)
+    (True, True, (2, 4, 6), 9, None)
+    >>> tight, upper = ((2, 0, 3, 4, 1), (1, 2, 0, 4, 0)), ((3, 0, 6, 1, 0), (1, 20, 0, 4, 1))
+    >>> is_roomy(tight), growth(tight), filled(tight), excesses(upper), growth(upper), greatest_cut(upper), filled(upper)
+    (False, 0, (1, 1), (5, 2), 5, 0, (2, 5))
+    >>> flow_through(pit)
+    raises CanNot()
+"""
+
+SECTION_14 = r"""
+    >>> flight, plain, wide = ((4, 1), (1, 0), (3, 0)), ((1, 1), (9, 0), (1, 1)), ((2, 1), (4, 0), (3, 0))
+    >>> narrow_of(flight), lag_of(flight), given_row(flight, (3,), 6), given_in_all(flight, (3, 0, 5), 10 ** 12)
+    (1, 1, (0, 0, 1, 1, 1, 0), 8)
+    >>> least_rooms(flight, (3,)), least_rooms(((1, 1), (4, 0), (3, 0)), (3,)), gives_alike(flight, plain), is_parting_comes(flight, wide, (2,))
+    ((3, 3, 1), (3, 1, 1), True, True)
+    >>> pump = ((3, 0, 3, 4, 1), (2, 9, 0, 1, 0), (1, 9, 2, 3, 0))
+    >>> flights_of(pump), may_exchange(pump, 0, 1), may_exchange(pump, 1, 2)
+    ([(0, 1)], True, False)
+    >>> parting_comes(flight, plain)
+    raises CanNot()
+"""
+
+SECTION_15 = r"""
+    >>> mine = ((3, 0, 2, 3, 0), (1, 4, 1, 2, 1))
+    >>> drown_rests(mine, 4), drown_rest(mine, 2, 3), driest(mine, 4)
+    ((26, 18, 10), 2, 0)
+    >>> lift_for(mine, 4, 3, 1), lift_for(mine, 4, 3, 0), cheapest_lift(mine, 4, 3), cheapest_lift(mine, 2, 3)
+    (3, None, (1, 1), None)
+    >>> better = (mine[0], (1, 4, 1, 3, 1))
+    >>> dam_of(better, 4, 3), is_dam(better, 4, 3, (3, 4)), is_dam(better, 4, 3, (2, 2)), drown_rests(better, 3), driest(better, 2)
+    ((2, 3), True, False, (None, None, None), 2)
+    >>> spring_for(mine, 4, 3, 1), spring_for(mine, 4, 3, 0), spring_for(better, 4, 3, 1), room_for(better, 3, 3, 1), room_for(mine, 4, 3, 1)
+    (0, 1, 1, 3, None)
+    >>> dam_of(mine, 4, 1)
+    raises CanNot()
+    >>> drown_rest(mine, 4, 4)
+    raises NoPlace(place=4)
+"""
+
 
 class Examples(unittest.TestCase):
     """Names of an example are those of the nearest one before that sets them, so all share them."""
@@ -140,7 +220,8 @@ class Examples(unittest.TestCase):
         names = {}
         for file, words in IMPORTS:
             exec(f"from manrods.{file} import {', '.join(words.split())}", names)
-        for text in (SECTION_4, SECTION_5, SECTION_6, SECTION_7, SECTION_8, SECTION_9, SECTION_10):
+        for text in (SECTION_4, SECTION_5, SECTION_6, SECTION_7, SECTION_8, SECTION_9, SECTION_10, SECTION_11,
+                     SECTION_12, SECTION_13, SECTION_14, SECTION_15):
             run_examples(self, text, names)
 
 

@@ -24,6 +24,9 @@ STATEMENTS = (
     ast.Assign, ast.AugAssign, ast.If, ast.While, ast.For, ast.Return, ast.Break, ast.Continue, ast.Pass, ast.Raise, ast.Expr,
     ast.FunctionDef, ast.ClassDef, ast.ImportFrom, ast.Try, ast.Delete, ast.Assert)
 OTHERS = (ast.Div, ast.GeneratorExp, ast.Lambda, ast.NamedExpr, ast.Set, ast.SetComp, ast.Yield, ast.YieldFrom, ast.AnnAssign)
+TAKERS = ("list", "tuple", "dict", "sorted", "sum", "any", "all", "enumerate", "zip", "min", "max", "reversed", "len")
+AT_ONCE = ("range", "zip", "enumerate", "reversed", "items", "keys", "values")
+CHANGING = ("append", "pop", "insert", "remove", "extend", "clear", "update", "reverse", "setdefault")
 
 
 def files():
@@ -116,6 +119,47 @@ class Language(unittest.TestCase):
                     for sign, other in zip(node.ops, node.comparators):
                         if isinstance(sign, (ast.Is, ast.IsNot)):
                             self.assertIn(getattr(other, "value", 0), (None, True, False), (name, node.lineno))
+
+    def test_iterated_at_once(self):
+        for name, tree in self.each_tree():
+            iterated = []
+            for node in ast.walk(tree):
+                if isinstance(node, (ast.For, ast.comprehension)):
+                    iterated.append(node.iter)
+                if isinstance(node, ast.Call) and isinstance(node.func, ast.Name) and node.func.id in TAKERS:
+                    iterated.extend(node.args)
+                if isinstance(node, ast.Compare) and isinstance(node.ops[0], (ast.In, ast.NotIn)):
+                    iterated.extend(node.comparators)
+                if isinstance(node, ast.Assign) and isinstance(node.targets[0], ast.Name):
+                    iterated.append(node.value)
+            for node in ast.walk(tree):
+                if isinstance(node, ast.Call) and getattr(node.func, "id", getattr(node.func, "attr", None)) in AT_ONCE:
+                    self.assertIn(node, iterated, (name, node.lineno))
+
+    def test_what_a_loop_goes_over_stays(self):
+        for name, tree in self.each_tree():
+            for loop in ast.walk(tree):
+                if isinstance(loop, ast.For):
+                    self.check_loop(name, loop)
+
+    def check_loop(self, name, loop):
+        over = loop.iter
+        while isinstance(over, ast.Call) and getattr(over.func, "id", None) in ("enumerate", "zip", "reversed"):
+            over = over.args[0]
+        if isinstance(over, ast.Call) and isinstance(over.func, ast.Attribute):
+            over = over.func.value
+        told = ast.unparse(over)
+        for node in ast.walk(loop):
+            changed = []
+            if isinstance(node, ast.Assign):
+                changed = [part.value for part in node.targets if isinstance(part, ast.Subscript)]
+            if isinstance(node, ast.AugAssign) and isinstance(node.target, ast.Subscript):
+                changed = [node.target.value]
+            if isinstance(node, ast.Delete):
+                changed = [part.value for part in node.targets if isinstance(part, ast.Subscript)]
+            if isinstance(node, ast.Call) and getattr(node.func, "attr", None) in CHANGING:
+                changed = [node.func.value]
+            self.assertNotIn(told, [ast.unparse(part) for part in changed], (name, node.lineno if changed else 0))
 
     def test_names(self):
         for name, tree in self.each_tree():
