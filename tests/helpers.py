@@ -226,3 +226,52 @@ def plain_rows(waters, held, many):
 def wet_by_hand(deep, per, held):
     """The list of the levels that are drowned, told one by one."""
     return [level for level in range(1, deep + 1) if held[0] >= per * (deep - level + 1)]
+
+
+def random_mine(dice, last=5, most=4, engines=True):
+    """A MINE with WATERS of at most so many CISTERNS; with an ENGINE, mostly a weak one, if engines is True."""
+    deep = dice.randint(2, 6)
+    waters = random_waters(dice, deep, most, last)
+    engine = None
+    if engines and dice.random() < 0.8:
+        room = dice.randint(0, dice.choice((10, 40)))
+        stokes = tuple([dice.randint(0, dice.choice((2, 9, 20))) for _ in range(dice.randint(1, 4))])
+        engine = (room, dice.randint(0, room), stokes)
+    return (shaft_of(deep, dice.random() < 0.5), waters, dice.randint(1, 4), engine)
+
+
+def weight_by_hand(waters, brought):
+    """The weight of a stroke at which the lifts bring so much: level by level, unit by unit."""
+    levels = [cistern[0] for cistern in waters] + [0]
+    return sum([amount * len(range(levels[at + 1], levels[at])) for at, amount in enumerate(brought)])
+
+
+class LonePlay:
+    """The lone run of a MINE by the words of [16]: rows behind each rest, missed strokes, weights."""
+
+    def __init__(self, mine, many, all_made=False):
+        self.mine, self.all_made = mine, all_made
+        self.water = WaterPlay(mine[1], [0] * len(mine[1]))
+        self.made, self.steam = 0, mine[3][1] if mine[3] else 0
+        self.rows, self.missed, self.weights = [], [], []
+        self.note()
+        for rest in range(many):
+            self.rest(rest)
+
+    def note(self):
+        self.rows.append((self.made, tuple(self.water.held), self.steam))
+
+    def rest(self, rest):
+        trial = WaterPlay(self.mine[1], self.water.held)
+        weight = weight_by_hand(self.mine[1], trial.lift(1 if self.made % 2 == 0 else 0))
+        self.weights.append(weight)
+        moved = self.all_made or self.mine[3] is None or self.steam >= weight
+        self.water.rest(rest, self.made, moved)
+        if moved:
+            self.made += 1
+        else:
+            self.missed.append(rest)
+        if self.mine[3]:
+            room, _, stokes = self.mine[3]
+            self.steam = min(room, self.steam - (weight if moved else 0) + stokes[rest % len(stokes)])
+        self.note()

@@ -1,4 +1,4 @@
-"""The examples of the document, as they stand there, sections 4 to 15."""
+"""The examples of the document, as they stand there, sections 4 to 19."""
 
 import unittest
 
@@ -22,6 +22,13 @@ IMPORTS = (
     ("swapped", "is_flight narrow_of lag_of given_row given_in_all least_rooms gives_alike parting_comes"
                 " is_parting_comes flights_of measures_exchanged may_exchange"),
     ("drowns", "drown_rest drown_rests driest dam_of is_dam lift_for cheapest_lift spring_for room_for"),
+    ("engines", "stroke_weight is_stroke_made greatest_weights steam_behind lone_rows missed_strokes"
+                " weights_ahead first_lack is_lack least_room least_more"),
+    ("lasts", "made_row wet_from lasts_of last_slots comes_up flood_of is_flood slots_of last_trip"),
+    ("bells", "is_lasts are_bars is_muster leads slots_left all_saved saving lot is_saving is_lot rescue"
+              " most_saved depth_counts last_bell"),
+    ("broken", "are_breaks bars_of first_barred up_at is_climb most_up climbs are_climbs worst_platforms"
+               " least_mends"),
 )
 
 SECTION_4 = r"""
@@ -212,6 +219,68 @@ SECTION_15 = r"""
     raises NoPlace(place=4)
 """
 
+SECTION_16 = r"""
+    >>> mill = ((4, True, (0, 0, 0, 0, 0)), ((4, 0, 3, 3, 0), (2, 6, 1, 4, 1)), 4, (10, 4, (5, 8)))
+    >>> stroke_weight(mill, (3, 4), 4, (), (0, 0)), stroke_weight(mill, (3, 4), 5, (), (1, 0)), greatest_weights(mill), is_stroke_made(mill, (3, 0), 9, 5, (), (0, 0))
+    (8, 4, (6, 8), False)
+    >>> lone_rows(mill, 2), weights_ahead(mill, 7), steam_behind(mill, 1, 9, 0)
+    ([(0, (0, 0), 4), (1, (0, 0), 9), (2, (3, 1), 10)], (0, 0, 2, 6, 8, 6, 8), 10)
+    >>> missed_strokes(mill, 16), first_lack(mill, 10), is_lack(mill, 10, (5, 9)), first_lack(mill, 9), least_room(mill, 10), least_more(mill, 10)
+    ((9, 15), (4, 9), False, None, 11, 1)
+    >>> missed_strokes(mill[:3] + (None,), 30), lone_rows(mill[:3] + (None,), 1)[1]
+    ((), (1, (0, 0), 0))
+    >>> least_room(mill[:3] + (None,), 4)
+    raises Unfit()
+"""
+
+SECTION_17 = r"""
+    >>> well = ((4, True, (0, 0, 0, 0, 0)), ((4, 0, 3, 1, 0),), 2, None)
+    >>> [wet_from(well, own, 12) for own in (1, 2, 3, 4)], lasts_of(well, 12), last_slots(well, 12), lasts_of(well, 4)
+    ([8, 6, 4, 2], (7, 5, 3, 1), (8, 7, 6, 5), (None, None, 3, 1))
+    >>> [comes_up(well, 4, own, 12) for own in (5, 6)], flood_of(well, 4, 6, 12), is_flood(well, 4, 6, 12, (3, 4)), last_trip(well, 1, 3, 12), last_trip(well, 3, 1, 12)
+    ([True, False], (4, 2), False, 3, -1)
+    >>> slots_of(well, (), 4, 0, 12), slots_of(well, ((1, 0, 0),), 3, 0, 12), slots_of(well, ((0, 1, 5),), 2, 3, 12)
+    ((4, 5), (3, 5), (5, 6))
+    >>> stuck = well[:3] + ((2, 0, (1,)),)
+    >>> made_row(stuck, 6), lasts_of(stuck, 8), last_slots(stuck, 8), flood_of(stuck, 4, 4, 8), comes_up(stuck, 3, 3, 8), comes_up(stuck, 3, 3, 2)
+    ((0, 1, 2, 3, 3, 3, 3), (2, 2, 2, 1), (3, 3, 3, 3), (1, 6), True, False)
+    >>> flood_of(well, 4, 5, 12)
+    raises CanNot()
+"""
+
+SECTION_18 = r"""
+    >>> lasts, bars = (9, 5, 2), ((0, 0, 4),)
+    >>> [[s for s in range(12) if leads(lasts, bars, level, 0, s)] for level in (1, 2)], leads(lasts, bars, 2, 1, 6), slots_left(lasts, bars, 1, 4)
+    ([[1, 2, 3, 4, 5, 7, 9], [2, 3, 4, 5, 7]], True, 4)
+    >>> muster = ((3, 0), (3, 0), (2, 2), (1, 3))
+    >>> saving(lasts, bars, muster), is_saving(lasts, bars, muster, (4, 3, 7, 5)), is_saving(lasts, bars, muster, (3, 4, 5, 6))
+    ((3, 4, 5, 7), True, False)
+    >>> late, odd = ((1, 3), (1, 3), (2, 0), (2, 0)), ((1, 1, 0),)
+    >>> rescue((4, 2), odd, late), lot((4, 2), odd, late), is_lot((4, 2), odd, late, (0, 1, 2))
+    ((5, None, 2, 4), (0, 1, 2, 3), False)
+    >>> last_bell(lasts, bars, (3, 2, 2, 1)), depth_counts(lasts, bars, (3, 2, 2, 1), 3), last_bell((None, None), (), (2, 2))
+    (2, [(1, 4, 4), (2, 3, 2), (3, 1, 0)], None)
+    >>> saving(lasts, bars, ((3, 1), (3, 1), (3, 1)))
+    raises CanNot()
+"""
+
+SECTION_19 = r"""
+    >>> breaks, quick = (((0, 1), 0),), (None, None, 0)
+    >>> bars_of(breaks), bars_of((((0, 2), 5),))
+    (((1, 1, 0),), ((2, 0, 4),))
+    >>> pit, up = (3, True, (0, 9, 9, 9)), (3, 0, 0)
+    >>> first_barred(pit, breaks, up, 0), first_barred(pit, breaks, up, 1), first_barred(pit, (((0, 1), 2),), up, 0)
+    ((1, 2, False), None, (2, 1, True))
+    >>> [up_at(quick, bars_of(breaks), asides, (3, 0)) for asides in ((), (2,))], is_climb(quick, bars_of(breaks), (2,), (3, 0), ((3, 3), (2, 4)))
+    ([None, 4], True)
+    >>> most_up(quick, bars_of(breaks), (2, 3), ((3, 0), (2, 0), (2, 0)))
+    3
+    >>> worst_platforms((4, 1, 0), (), ((3, 0), (2, 0)), 0), least_mends((9, 9, 0), (((0, 0), 0), ((0, 1), 0)), ((3, 0),))
+    ((1, ((0, 0), (0, 1), (1, 1), (1, 2), (1, 3))), [(((0, 1), 0),)])
+    >>> most_up((9, 9), (), (2,), ((1, 0),))
+    raises Unfit()
+"""
+
 
 class Examples(unittest.TestCase):
     """Names of an example are those of the nearest one before that sets them, so all share them."""
@@ -221,7 +290,7 @@ class Examples(unittest.TestCase):
         for file, words in IMPORTS:
             exec(f"from manrods.{file} import {', '.join(words.split())}", names)
         for text in (SECTION_4, SECTION_5, SECTION_6, SECTION_7, SECTION_8, SECTION_9, SECTION_10, SECTION_11,
-                     SECTION_12, SECTION_13, SECTION_14, SECTION_15):
+                     SECTION_12, SECTION_13, SECTION_14, SECTION_15, SECTION_16, SECTION_17, SECTION_18, SECTION_19):
             run_examples(self, text, names)
 
 

@@ -8,7 +8,8 @@ import unittest
 
 PACKAGE = os.path.join(os.path.dirname(os.path.abspath(__file__)), "..", "manrods")
 
-LIBRARY = {"math": ("gcd", "lcm", "isqrt", "comb", "perm", "factorial")}
+LIBRARY = {
+    "math": ("gcd", "lcm", "isqrt", "comb", "perm", "factorial"), "itertools": ("combinations", "permutations", "product")}
 BUILTINS = set((
     "len range enumerate zip min max sum abs sorted reversed int str bool list tuple dict set isinstance ord repr any all"
     " divmod ValueError KeyError IndexError LookupError ZeroDivisionError TypeError").split())
@@ -127,7 +128,7 @@ class Language(unittest.TestCase):
                 if isinstance(node, (ast.For, ast.comprehension)):
                     iterated.append(node.iter)
                 if isinstance(node, ast.Call) and isinstance(node.func, ast.Name) and node.func.id in TAKERS:
-                    iterated.extend(node.args)
+                    iterated.extend(node.args[:1])
                 if isinstance(node, ast.Compare) and isinstance(node.ops[0], (ast.In, ast.NotIn)):
                     iterated.extend(node.comparators)
                 if isinstance(node, ast.Assign) and isinstance(node.targets[0], ast.Name):
