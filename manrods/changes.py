@@ -59,9 +59,7 @@ def wide_end(change):
 
 def _mixed_room(level, last, first):
     """How many men board from made first to last in one class, some up, some down, one kind ahead of the other."""
-    if last - level - first < 0:
-        return 0
-    return (last - level - first) // 2 + 2
+    return max(0, (last - level - first) // 2 + 2)
 
 
 def _class_rooms(level, last, first_up, first_down):
@@ -83,10 +81,9 @@ def _all_board(level, up, down, last):
     if level == 1:
         return max(up, down) <= last + 1
     # Those who can hinder one another make two classes: in class c sinkers board while made is of
-    # colour c, risers while it is of the colour of c and level.
+    # colour c, risers while it is of the colour of c and level. Both kinds in both classes are never
+    # needed: one class has at least as much room for one kind alone.
     one, two = [_class_rooms(level, last, (colour + level) % 2, colour) for colour in (0, 1)]
-    if up + down <= one[2] + two[2]:
-        return True
     if down == 0 and up <= one[0] + two[0] or up == 0 and down <= one[1] + two[1]:
         return True
     turned_one, turned_two = (one[1], one[0], one[2]), (two[1], two[0], two[2])
@@ -244,7 +241,8 @@ class StagedRun:
         for man in list(self.sinking):
             self.sinking[man] += 1
         if not self.sinking and self.idle:
-            self.made = max(self.made, min([since for _, since in list(self.idle.values())]))
+            # Who could have boarded by now sinks: so all these are ready later.
+            self.made = min([since for _, since in list(self.idle.values())])
 
 
 def _staged(book, stages):
