@@ -7,7 +7,7 @@ from manrods.waters import behind_swing, dry_held
 MOST_SWINGS = 1000
 
 
-def _sprung(waters):
+def sprung_sums(waters):
     """The list with, for each CISTERN, its spring and those of all ahead of it, added."""
     sums, total = [], 0
     for cistern in waters:
@@ -18,12 +18,12 @@ def _sprung(waters):
 
 def excesses(waters):
     """The tuple of the excesses of all CISTERNS."""
-    return tuple([sprung - cistern[3] for sprung, cistern in zip(_sprung(waters), waters)])
+    return tuple([sprung - cistern[3] for sprung, cistern in zip(sprung_sums(waters), waters)])
 
 
 def is_roomy(waters):
     """Whether waters are roomy."""
-    pairs = list(zip(_sprung(waters), waters))
+    pairs = list(zip(sprung_sums(waters), waters))
     return all([sprung <= cistern[1] for sprung, cistern in pairs[1:]])
 
 
@@ -53,7 +53,7 @@ def flow_through(waters):
     """A FLOW that brings out all springs."""
     if not is_bounded(waters):
         raise CanNot()
-    return tuple(_sprung(waters))
+    return tuple(sprung_sums(waters))
 
 
 def is_flow(waters, thing):
@@ -125,7 +125,7 @@ def held_far(waters, swings):
 
 def out_far(waters, swings):
     """All that came out in so many swings."""
-    return swings * _sprung(waters)[-1] - sum(held_far(waters, swings))
+    return swings * sprung_sums(waters)[-1] - sum(held_far(waters, swings))
 
 
 def swings_to(waters, least):

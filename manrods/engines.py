@@ -5,7 +5,7 @@ from manrods.errors import Unfit
 from manrods.waters import behind_rest, brings, dry_held, held_rows
 
 
-def _heights(waters):
+def heights_of(waters):
     """The list of the levels that each lift goes up."""
     levels = [cistern[0] for cistern in waters]
     return [low - high for low, high in zip(levels, levels[1:] + [0])]
@@ -14,7 +14,7 @@ def _heights(waters):
 def stroke_weight(mine, held, made, loose, leaks):
     """The weight of the stroke behind made."""
     brought = brings(mine[1], held, made, loose, leaks)
-    return sum([amount * height for amount, height in zip(brought, _heights(mine[1]))])
+    return sum([amount * height for amount, height in zip(brought, heights_of(mine[1]))])
 
 
 def is_stroke_made(mine, held, made, steam, loose, leaks):
@@ -25,7 +25,7 @@ def is_stroke_made(mine, held, made, steam, loose, leaks):
 def greatest_weights(mine):
     """The pair of the greatest weights there can be when rod 0, rod 1 rises."""
     weights = [0, 0]
-    for number, height in enumerate(_heights(mine[1])):
+    for number, height in enumerate(heights_of(mine[1])):
         _, room, _, measure, rod = mine[1][number]
         if number > 0:
             measure = min(measure, room)

@@ -50,31 +50,43 @@ def brings(waters, held, made, loose, leaks):
 
 
 def _lift_all(now, brought):
-    """Take what the lifts bring out of each of now, into the next one; what comes out of the last one."""
+    """Take what the lifts bring out of each of now, into the next one."""
     coming = 0
     for number, amount in enumerate(brought):
         now[number] += coming - amount
         coming = amount
-    return coming
 
 
 def _spill(waters, now):
-    """Let what is above its room spill out of each of now but the sump, from the topmost one down."""
+    """Let what is above its room spill out of each of now but the sump, from the topmost one down.
+
+    The list of how much spilt out of each.
+    """
+    spilt = [0] * len(now)
     for number in range(len(waters) - 1, 0, -1):
         over = max(0, now[number] - waters[number][1])
         now[number] -= over
         now[number - 1] += over
+        spilt[number] = over
+    return spilt
+
+
+def water_told(waters, held, rest, made, moved, loose, leaks):
+    """The triple of HELD behind the water of this rest, and of what each lift brought, each CISTERN spilt."""
+    now, brought = list(held), dry_held(waters)
+    if moved:
+        brought = brings(waters, held, made, loose, leaks)
+        _lift_all(now, brought)
+    if rest % 2 == 1:
+        now = [amount + cistern[2] for amount, cistern in zip(now, waters)]
+    spilt = _spill(waters, now)
+    return (tuple(now), brought, tuple(spilt))
 
 
 def behind_rest(waters, held, rest, made, moved, loose, leaks):
     """The pair of HELD behind the water of this rest and of what came out at the adit."""
-    now, came_out = list(held), 0
-    if moved:
-        came_out = _lift_all(now, brings(waters, held, made, loose, leaks))
-    if rest % 2 == 1:
-        now = [amount + cistern[2] for amount, cistern in zip(now, waters)]
-    _spill(waters, now)
-    return (tuple(now), came_out)
+    now, brought, _ = water_told(waters, held, rest, made, moved, loose, leaks)
+    return (now, brought[-1])
 
 
 def plain_rest(waters, held, rest):
@@ -116,12 +128,19 @@ def drowned_levels(deep, per, held):
     return tuple(range(drowned_top(deep, per, held), deep + 1))
 
 
+def all_brought(cisterns, rest):
+    """The rest at which the last of these lifts brings what is in the first CISTERN ahead of rest.
+
+    Each takes all of it at its first rise.
+    """
+    for cistern in cisterns:
+        if rising_rod(rest) != cistern[4]:
+            rest += 1
+        rest += 1
+    return rest - 1
+
+
 def way_out(waters, number):
     """The rest at which what springs in this CISTERN at rest 1 comes out if each lift brings all of it."""
     check_cistern(waters, number)
-    rest = 1
-    for cistern in waters[number:]:
-        rest += 1
-        if rising_rod(rest) != cistern[4]:
-            rest += 1
-    return rest
+    return all_brought(waters[number:], 2)

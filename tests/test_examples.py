@@ -1,4 +1,4 @@
-"""The examples of the document, as they stand there, sections 4 to 19."""
+"""The examples of the document, as they stand there, sections 4 to 23."""
 
 import unittest
 
@@ -29,6 +29,11 @@ IMPORTS = (
               " most_saved depth_counts last_bell"),
     ("broken", "are_breaks bars_of first_barred up_at is_climb most_up climbs are_climbs worst_platforms"
                " least_mends"),
+    ("mines", "is_mine are_faults is_run is_standing first_standing can_do rest_done rests_of end_standing"
+               " adit_of moved_in home_in lost_in with_bell bells_that_save"),
+    ("accounts", "water_book water_sum raised fallen steam_book men_book stride_book ledger ledger_on"),
+    ("rounds", "round_of is_round far_standing adit_far drowned_from for_good last_place"),
+    ("faults", "valves_at springs_at broken_at dents gauge_felt taken_by is_calm dent_of twins_of"),
 )
 
 SECTION_4 = r"""
@@ -282,6 +287,74 @@ SECTION_19 = r"""
 """
 
 
+SECTION_20 = r"""
+    >>> pit = ((3, True, (0, 9, 9, 9)), ((3, 0, 1, 2, 0),), 9, None)
+    >>> climb, dig = (pit, ((2, 0, 0),), (), (), 6), (pit, ((1, 3, 0),), (), (), 6)
+    >>> rests_of(climb)[1], end_standing(climb)[2:6]
+    ((1, 1, (0,), 0, (('rod', 1, 1),), ((0, 0),), (), (), True), ((1,), 0, (('grass',),), (None,)))
+    >>> adit_of(climb), home_in(climb), home_in(climb[:2] + ((("platform", (1, 2), 0),),) + climb[3:])
+    ((0, 0, 0, 1, 0, 1), [(3, 0)], [(4, 0)])
+    >>> end_standing(dig)[4], home_in(with_bell(dig, 1)), bells_that_save(dig)
+    ((('aside', 3),), [(4, 0)], (0, 1, 2))
+    >>> two = (pit[0], ((3, 0, 2, 2, 0), (1, 1, 0, 1, 0)), 9, None)
+    >>> [own[2] for own in rests_of((two, (), (), (), 6))][3:], adit_of((two, (), (), ((4, ("cock", 1, 1)),), 6))
+    ([(2, 0), (3, 1), (3, 1), (4, 1)], (0, 0, 0, 0, 0, 0))
+    >>> can_do(pit, (), first_standing(pit, ()), ("couple", 0, True)), is_run(climb)
+    (False, True)
+    >>> rest_done(pit, (), first_standing(pit, ()), (("stoke", 5),))
+    raises Unfit()
+"""
+
+SECTION_21 = r"""
+    >>> water_book(climb), water_sum(climb), raised(climb), fallen(climb)
+    (((3, 2, 0, 0, 1),), (3, 2, 1), 6, 0)
+    >>> flood = (two, (), (), (), 6)
+    >>> water_book(flood), water_sum(flood), raised(flood), fallen(flood)
+    (((6, 4, 0, 0, 4), (0, 1, 2, 0, 1)), (6, 1, 5), 9, 4)
+    >>> men_book(with_bell(dig, 1)), stride_book(with_bell(dig, 1)), steam_book(climb)
+    (((2, 1),), ((1, 0), (1, 1), (0, 0)), None)
+    >>> ledger(climb), ledger_on(pit, (), rests_of(climb)[3], (), 3)
+    ((6, 6, 3, 2, 6, 0, 2, 0, 0), (3, 3, 2, 2, 6, 0, 0, 0, 0))
+    >>> tender = (pit[:3] + ((9, 4, (3, 0)),), (), (), (), 6)
+    >>> moved_in(tender), steam_book(tender)
+    ((True, True, True, True, True, True), (13, 6, 1, 6))
+"""
+
+SECTION_22 = r"""
+    >>> pond = ((2, True, (0, 0, 0)), ((2, 0, 3, 1, 0),), 2, None)
+    >>> round_of(pond, (), ()), [is_round(pond, (), (), own) for own in ((2, 4, 4), (1, 2, 2), (2, 2, 0))]
+    ((2, 2, 2), [True, False, False])
+    >>> far_standing(pond, (), (), 10**12)[2], adit_far(pond, (), (), 10**12)
+    ((1000000000001,), 499999999999)
+    >>> [drowned_from(pond, (), (), level) for level in (2, 1, 0)], for_good(pond, (), ())
+    ([2, 4, None], (1, 2))
+    >>> narrow = ((4, False, (0, 0, 0, 0, 1)), ((4, 0, 0, 1, 0),), 1, None)
+    >>> both = ((4, 0, 0), (0, 4, 0))
+    >>> round_of(narrow, both, ()), last_place(narrow, both, (), 0), last_place(narrow, both[:1], (), 0)
+    ((2, 2, 0), None, ('grass',))
+    >>> drowned_from(pond, (), (), 3)
+    raises NoPlace(place=3)
+"""
+
+SECTION_23 = r"""
+    >>> twin = ((2, True, (0, 0, 1)), ((2, 0, 2, 5, 0), (1, 9, 1, 9, 1)), 9, None)
+    >>> leak = ("valve", 0, 1, 5)
+    >>> adit_of((twin, (), (), (), 9)), adit_of((twin, (), (leak,), (), 9)), is_calm(twin)
+    ((0, 0, 1, 0, 3, 0, 3, 0, 3), (0, 0, 1, 0, 3, 0, 2, 0, 3), True)
+    >>> dents(twin, (), (leak,), 0, 12), gauge_felt(twin, (), (leak,), 0, 12)
+    ([(6, -1)], (6, 0))
+    >>> dent_of(twin, leak), twins_of(twin, leak)
+    ((6, 1), [(0, 4, 5), (1, 5, 6)])
+    >>> damp, more = (twin[0], ((2, 0, 1, 1, 0),), 2, None), ("spring", 0, 1, 4)
+    >>> [taken_by(damp, ((2, 0, 9),), (more,), 0, many) for many in (5, 6)], springs_at(damp, (more,), 4)
+    ([(), (0,)], (2,))
+    >>> valves_at(twin, (leak, ("valve", 0, 2, 7)), 7), broken_at(twin, (("platform", (1, 1), 3),), 2)
+    ((3, 0), ())
+    >>> dent_of(twin, ("valve", 0, 3, 5))
+    raises Unfit()
+"""
+
+
 class Examples(unittest.TestCase):
     """Names of an example are those of the nearest one before that sets them, so all share them."""
 
@@ -290,7 +363,8 @@ class Examples(unittest.TestCase):
         for file, words in IMPORTS:
             exec(f"from manrods.{file} import {', '.join(words.split())}", names)
         for text in (SECTION_4, SECTION_5, SECTION_6, SECTION_7, SECTION_8, SECTION_9, SECTION_10, SECTION_11,
-                     SECTION_12, SECTION_13, SECTION_14, SECTION_15, SECTION_16, SECTION_17, SECTION_18, SECTION_19):
+                     SECTION_12, SECTION_13, SECTION_14, SECTION_15, SECTION_16, SECTION_17, SECTION_18, SECTION_19,
+                     SECTION_20, SECTION_21, SECTION_22, SECTION_23):
             run_examples(self, text, names)
 
 

@@ -105,7 +105,17 @@ class Language(unittest.TestCase):
                     self.assertIs(node, tree.body[0], name)
                 if isinstance(node, ast.Assign):
                     self.assertEqual(len(node.targets), 1)
-                    ast.literal_eval(node.value)
+                    self.check_value(name, tree, node)
+
+    def check_value(self, name, tree, node):
+        """A plain value, or a dict of functions that are defined above it."""
+        if not isinstance(node.value, ast.Dict) or not any(isinstance(part, ast.Name) for part in node.value.values):
+            ast.literal_eval(node.value)
+            return
+        above = [part.name for part in tree.body if isinstance(part, ast.FunctionDef) and part.lineno < node.lineno]
+        for key, value in zip(node.value.keys, node.value.values):
+            self.assertIsInstance(ast.literal_eval(key), str, name)
+            self.assertIn(value.id, above, name)
 
     def test_statements_and_expressions(self):
         for name, tree in self.each_tree():
@@ -165,7 +175,7 @@ class Language(unittest.TestCase):
     def test_names(self):
         for name, tree in self.each_tree():
             functions = [node for node in ast.walk(tree) if isinstance(node, ast.FunctionDef)]
-            names = [word for word in stored_names(tree) if word != "__init__"]
+            names = [word for word in stored_names(tree) if word not in ("__init__", "__eq__")]
             given = set(names)
             for word in names:
                 self.assertRegex(word, r"^(_|_?[A-Za-z][A-Za-z0-9_]*)$", name)
@@ -197,6 +207,54 @@ class Language(unittest.TestCase):
             for node in ast.walk(tree):
                 if isinstance(node, ast.Call) and isinstance(node.func, ast.Attribute):
                     self.assertIn(node.func.attr, METHODS | own, (name, node.lineno))
+
+    def test_stars_in_calls(self):
+        for name, tree in self.each_tree():
+            for node in ast.walk(tree):
+                if isinstance(node, ast.Call):
+                    for part in node.args:
+                        if isinstance(part, ast.Starred):
+                            self.assertIsInstance(part.value, (ast.Name, ast.List, ast.Tuple), (name, node.lineno))
+                    self.assertTrue(all(part.arg for part in node.keywords), (name, node.lineno))
+
+    def test_methods_and_attributes_have_names_of_their_own(self):
+        methods, attributes = {}, {}
+        for name, tree in self.each_tree():
+            for node in ast.walk(tree):
+                if isinstance(node, ast.ClassDef):
+                    found = [part.name for part in node.body if isinstance(part, ast.FunctionDef)]
+                    self.assertEqual(len(found), len(set(found)), (name, node.name))
+                    methods.update({word: name for word in found})
+                if isinstance(node, ast.Attribute) and isinstance(node.ctx, ast.Store):
+                    attributes[node.attr] = name
+        self.assertEqual(sorted(set(methods) & set(attributes)), [])
+        for name, tree in self.each_tree():
+            for node in ast.walk(tree):
+                if isinstance(node, ast.Attribute) and isinstance(node.ctx, ast.Load):
+                    self.assertTrue(node.attr in attributes or node.attr in methods or node.attr in METHODS, (name, node.attr))
+
+    def test_only_own_errors_are_caught(self):
+        own = ("BadLine", "CanNot", "NoPlace", "NothingDone", "TooMuch", "Unfit")
+        for name, tree in self.each_tree():
+            for node in ast.walk(tree):
+                if isinstance(node, ast.ExceptHandler):
+                    self.assertIsInstance(node.type, ast.Name, (name, node.lineno))
+                    self.assertIn(node.type.id, own, (name, node.lineno))
+                if isinstance(node, ast.Raise):
+                    self.assertIn(node.exc.func.id, own, (name, node.lineno))
+                if isinstance(node, ast.Try):
+                    self.assertEqual(node.finalbody, [], (name, node.lineno))
+
+    def test_no_imports_in_a_ring(self):
+        imports = {}
+        for name, tree in self.each_tree():
+            modules = [node.module for node in tree.body if isinstance(node, ast.ImportFrom)]
+            imports[name] = [module[len("manrods."):] + ".py" for module in modules if module.startswith("manrods.")]
+        done = []
+        while len(done) < len(imports):
+            free = [name for name in imports if name not in done and all(other in done for other in imports[name])]
+            self.assertNotEqual(free, [], "files import from each other")
+            done.extend(free)
 
     def test_words(self):
         for name in files():

@@ -4,94 +4,17 @@ import itertools
 import unittest
 
 from helpers import ODD_THINGS, check_manners, deep_thing, dice_of, listed, same, shaft_of, spoilt
+from mineplay import GRASS, LOST, RestPlay, aside, random_crowd, rod
 from manrods.errors import NoPlace
 from manrods.rests import barred, carried, crowd_behind, first_crowd, is_crowd, ready_crowd, soaked, wanted
 from manrods.shafts import faced_level, facing_platform, goes_with, level_behind, platforms
 
 NARROW, WIDE = (4, False, (0, 1, 1, 1, 2)), (4, True, (0, 1, 1, 1, 2))
 SHAFTS = (NARROW, WIDE)
-GRASS, LOST = ("grass",), ("lost",)
-
-
-def aside(level):
-    return ("aside", level)
-
-
-def rod(number, level):
-    return ("rod", number, level)
-
-
-class Own:
-    """One rest, on a dict of who stands on which PLATFORM, as the table of [9] tells it."""
-
-    def __init__(self, shaft, made, fresh, crowd, broken):
-        self.shaft, self.made, self.fresh, self.broken = shaft, made, fresh, broken
-        self.men, self.aims = list(crowd[0]), list(crowd[1])
-
-    def level(self, man):
-        place = self.men[man]
-        return {"grass": 0, "lost": None}.get(place[0], place[-1])
-
-    def on(self):
-        return {
-            platform: man for man, place in enumerate(self.men) for platform in platforms(self.shaft)
-            if place == rod(platform[0], faced_level(platform, self.made))}
-
-    def want(self, man):
-        level, aim = self.level(man), self.aims[man]
-        if aim is None or aim[0] == level or (self.men[man][0] != "rod" and aim[1] > self.made):
-            return None
-        step = 1 if aim[0] > level else -1
-        return [
-            platform for platform in platforms(self.shaft)
-            if faced_level(platform, self.made) == level and goes_with(platform, self.made) == step][0]
-
-    def put(self, man, platform):
-        self.men[man] = rod(platform[0], faced_level(platform, self.made))
-
-    def one_and_two(self):
-        for platform, man in self.on().items():
-            if platform in self.broken:
-                self.men[man], self.aims[man] = LOST, None
-        for man in range(len(self.men)):
-            level = self.level(man)
-            if self.aims[man] is None or self.aims[man][0] != level:
-                continue
-            if self.men[man][0] == "rod":
-                free = level == 0 or self.men.count(aside(level)) < self.shaft[2][level]
-                if free:
-                    self.men[man] = GRASS if level == 0 else aside(level)
-                    self.aims[man] = None
-            else:
-                self.aims[man] = None
-        return self
-
-    def three_and_four(self):
-        on = self.on()
-        to = {}
-        for platform, man in on.items():
-            want = self.want(man)
-            if want in (None, platform):
-                continue
-            if want in on:
-                if self.shaft[1] and (self.fresh or self.want(on[want]) != want):
-                    to[man], to[on[want]] = want, platform
-            elif want not in self.broken:
-                to[man] = want
-        for man, platform in to.items():
-            self.put(man, platform)
-        for man in range(len(self.men)):
-            want = self.want(man)
-            if self.men[man][0] != "rod" and want is not None and want not in self.on() and want not in self.broken:
-                self.put(man, want)
-        return self
-
-    def crowd(self):
-        return (tuple(self.men), tuple(self.aims))
 
 
 def own_ready(shaft, made, fresh, crowd, broken):
-    return Own(shaft, made, fresh, crowd, broken).one_and_two().three_and_four().crowd()
+    return RestPlay(shaft, made, fresh, crowd, broken).one_and_two().three_and_four().crowd()
 
 
 def own_behind(shaft, made, fresh, crowd, broken, moved, top):
@@ -101,25 +24,6 @@ def own_behind(shaft, made, fresh, crowd, broken, moved, top):
             men[man] = rod(place[1], level_behind(place[1], place[2], made))
         if men[man][0] in ("rod", "aside") and men[man][-1] >= top:
             men[man], aims[man] = LOST, None
-    return (tuple(men), tuple(aims))
-
-
-def random_crowd(dice, shaft, made, many):
-    """A CROWD of shaft at made, of all kinds of men."""
-    deep = shaft[0]
-    free = {}
-    for platform in platforms(shaft):
-        free[rod(platform[0], faced_level(platform, made))] = 1
-    for level in range(1, deep + 1):
-        free[aside(level)] = shaft[2][level]
-    free[GRASS] = free[LOST] = many
-    men, aims = [], []
-    for _ in range(many):
-        place = dice.choice([place for place in free if free[place] and (place[0] == "rod" or dice.random() < 0.4)] or [GRASS])
-        free[place] -= 1
-        men.append(place)
-        aim = (dice.randint(0, deep), max(0, made + dice.randint(-2, 1)))
-        aims.append(None if place == LOST or place[0] != "rod" and dice.random() < 0.3 else aim)
     return (tuple(men), tuple(aims))
 
 
@@ -200,7 +104,7 @@ class Wants(unittest.TestCase):
         dice = dice_of("wanted")
         for _ in range(300):
             shaft, made, crowd, _ = random_case(dice)
-            own = Own(shaft, made, True, crowd, ())
+            own = RestPlay(shaft, made, True, crowd, ())
             for man in range(len(crowd[0])):
                 self.assertTrue(same(wanted(shaft, made, crowd, man), own.want(man)))
 
@@ -358,9 +262,9 @@ class Steps(unittest.TestCase):
             behind = crowd_behind(shaft, made, fresh, crowd, broken, moved, top)
             self.assertTrue(same(behind, own_behind(shaft, made, fresh, crowd, broken, moved, top)))
             self.assertTrue(is_crowd(behind, shaft, made + moved))
-            early = Own(shaft, made, fresh, crowd, broken).one_and_two()
+            early = RestPlay(shaft, made, fresh, crowd, broken).one_and_two()
             wants = [early.want(man) for man in range(len(crowd[0]))]
-            on = {man: platform for platform, man in Own(shaft, made, fresh, expected, broken).on().items()}
+            on = {man: platform for platform, man in RestPlay(shaft, made, fresh, expected, broken).on().items()}
             held = tuple([man for man, want in enumerate(wants) if want is not None and on.get(man) != want])
             self.assertTrue(same(barred(shaft, made, fresh, crowd, broken), held))
 
