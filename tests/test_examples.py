@@ -1,4 +1,4 @@
-"""The examples of the document, as they stand there, sections 4 to 23."""
+"""The examples of the document, as they stand there, sections 4 to 28."""
 
 import unittest
 
@@ -34,6 +34,12 @@ IMPORTS = (
     ("accounts", "water_book water_sum raised fallen steam_book men_book stride_book ledger ledger_on"),
     ("rounds", "round_of is_round far_standing adit_far drowned_from for_good last_place"),
     ("faults", "valves_at springs_at broken_at dents gauge_felt taken_by is_calm dent_of twins_of"),
+    ("told", "is_easy leaky_row leaky_held sums_told fits is_fit refusal is_refusal best_gauge parting_gauge"
+               " frames_alike"),
+    ("judge", "is_claim is_so paper is_paper_for is_paper_against verdicts comes_of first_false"),
+    ("texts", "mine_text run_text ride_text fault_text deed_text ride_by fault_by deed_by mine_by run_by"),
+    ("board", "Board"),
+    ("desk", "desk is_request"),
 )
 
 SECTION_4 = r"""
@@ -354,6 +360,88 @@ SECTION_23 = r"""
     raises Unfit()
 """
 
+SECTION_24 = r"""
+    >>> brook = ((5, 0, 2, 9, 1), (3, 9, 1, 9, 0), (1, 9, 3, 9, 0))
+    >>> low, middle, high = ("valve", 0, 2, 4), ("valve", 1, 2, 5), ("valve", 2, 2, 7)
+    >>> is_easy(brook), leaky_row(brook, None, 8), leaky_row(brook, low, 8)
+    (True, (0, 0, 0, 3, 0, 6, 0, 6), (0, 0, 0, 3, 0, 6, 0, 4))
+    >>> sums_told(brook, (0, 0, 0, 1, 0, 3)), fits(brook, (0, 0, 0, 1, 0, 3), 1, (None,))
+    ([((2,), 1), ((0, 1), 2)], (((1, 1, 1), 0),))
+    >>> len(fits(brook, leaky_row(brook, low, 8), 3, (None, low, middle, high))), refusal(brook, (0, 0, 0, 1, 0, 0), 1, (None,))
+    (10, (3, 5, 3, 5, 3, 5, 3, 5))
+    >>> best_gauge(brook, (low, middle, high), ((0, 2), (1, 8), (0, 8))), parting_gauge(brook, low, middle, 20)
+    ((1, 8), (5, 0))
+    >>> frames_alike(((4, 0, 0, 9, 0), (2, 9, 0, 9, 1)), ((6, 0, 0, 5, 1), (1, 7, 0, 5, 1))), frames_alike(brook, brook[:2])
+    (True, False)
+    >>> sums_told(brook, (0, 0, 0, 1))
+    raises Unfit()
+"""
+
+SECTION_25 = r"""
+    >>> tight, cross = (4, False, (0, 1, 1, 1, 1)), ((4, 0, 0), (0, 4, 0))
+    >>> is_so(("free", tight, cross)), is_paper_against(("free", tight, cross), (0, 1, 2)), is_paper_for(("waits", tight, cross, 1), (0, 1))
+    (False, True, True)
+    >>> wells = ((6, 0, 2, 3, 1), (4, 5, 1, 4, 0), (2, 6, 2, 4, 1))
+    >>> verdicts((("cut", wells, 1), ("cut", wells, 2), ("cut", wells, 2)), (2, (2, 3, 4), (2, 3, 3)))
+    ['for', 'against', 'none']
+    >>> verdicts((("saved", (9, 5, 2), ((0, 0, 4),), ((3, 0), (3, 0))), ("steam", mill, 3), ("steam", mill, 10)), ((4, 3), (4, 9, 10), (4, 9)))
+    ['for', 'for', 'against']
+    >>> verdicts((("again", pond, (), ()), ("again", narrow, both, ()), ("home", climb), ("home", dig)), ((2, 4, 4), (2, 2, 0), (4,), 0))
+    ['against', 'for', 'for', 'against']
+    >>> comes_of(("waits", tight, cross[:1], 2), (("free", tight, cross),)), comes_of(("cut", wells, 2), (("cut", wells, 1),)), first_false((("cut", wells, 1), ("home", dig)))
+    (True, False, 1)
+    >>> is_so(("cut", wells, 0))
+    raises Unfit()
+"""
+
+SECTION_26 = r"""
+    >>> words = "deep 2, narrow\nrooms 0 1 1\ncistern 2: room 0, spring 2, measure 2, rod 0\nper 9"
+    >>> works = mine_by(words)
+    >>> works, mine_text(works) == words
+    (((2, False, (0, 1, 1)), ((2, 0, 2, 2, 0),), 9, None), True)
+    >>> day = (works, ((2, 0, 0),), (("valve", 0, 1, 5),), ((1, ("bell",)), (3, ("couple", 0, False))), 6)
+    >>> run_text(day)[len(words) + 1:]
+    'ride 2 to 0, ready 0\nfault valve 0 less 1, from 5\nat 1: bell\nat 3: uncouple 0\nrests 6'
+    >>> run_by(run_text(day)) == day, ride_text((4, 1, 2)), fault_by("platform 1 3, from 0"), deed_by("cock 1 by 2")
+    (True, '4 to 1, ready 2', ('platform', (1, 3), 0), ('cock', 1, 2))
+    >>> mine_by(words + "\nengine 9, 4: 0 2")[3], deed_text(("board", 0, 2))
+    ((9, 4, (0, 2)), 'board 0 to 2')
+    >>> mine_by("deep 2, narrow\nrooms 0 1")
+    raises BadLine(line=2)
+    >>> run_by(words)
+    raises BadLine(line=5)
+    >>> ride_by("2 to 2, ready 0")
+    raises BadLine(line=1)
+"""
+
+SECTION_27 = r"""
+    >>> mine = ((3, True, (0, 2, 2, 2)), ((3, 0, 1, 2, 0),), 9, None)
+    >>> slate = Board(mine, ((2, 0, 0), (1, 3, 4)), ())
+    >>> slate.home_ahead(9), slate.waiting(), slate.effect(("board", 1, 0), 9)
+    ((3, None), (0, 1), ((3, None), (3, 2)))
+    >>> slate.rests(3), slate.home(), slate.out(), slate.board(1, 2), slate.rests(1)
+    (None, (0,), 0, None, None)
+    >>> slate.standing()[4], slate.told(), slate.run()[4], slate.out()
+    ((('grass',), ('rod', 1, 2)), ((3, ('board', 1, 2)),), 4, 1)
+    >>> mate = slate.twin()
+    >>> slate.undo(), slate.undo(), slate == mate, slate.standing()[5], slate.redo(), slate.redo(), slate == mate
+    ('rests', 'board', False, (None, (3, 4)), 'board', 'rests', True)
+    >>> slate.couple(0, True)
+    raises Unfit()
+    >>> Board(mine, (), ()).undo()
+    raises NothingDone()
+"""
+
+SECTION_28 = r"""
+    >>> sheet = "run\n deep 3, wide\n rooms 0 2 2 2\n cistern 3: room 0, spring 1, measure 2, rod 0\n per 9\n ride 2 to 0, ready 0\n ride 1 to 3, ready 4\n rests 0\n"
+    >>> desk(sheet + "men\ntry 9 board 1 to 0\nrests 3\nhome\nboard 1 to 2\nrests 1\nout\ntold\nundo\nundo\nundo\nundo\ncouple 0")
+    ['done', 'aside 2, to 0 from 0\naside 1, to 3 from 4', '3 none\n3 2', 'done', '0', 'done', 'done', '1', 'at 3: board 1 to 2', 'rests', 'board', 'rests', 'refused NothingDone', 'refused Unfit']
+    >>> is_request("uncouple 3"), is_request("stoke 0"), is_request("run\n x"), is_request("rests 0")
+    (True, False, True, False)
+    >>> desk("undo\n")
+    raises BadLine(line=2)
+"""
+
 
 class Examples(unittest.TestCase):
     """Names of an example are those of the nearest one before that sets them, so all share them."""
@@ -364,7 +452,8 @@ class Examples(unittest.TestCase):
             exec(f"from manrods.{file} import {', '.join(words.split())}", names)
         for text in (SECTION_4, SECTION_5, SECTION_6, SECTION_7, SECTION_8, SECTION_9, SECTION_10, SECTION_11,
                      SECTION_12, SECTION_13, SECTION_14, SECTION_15, SECTION_16, SECTION_17, SECTION_18, SECTION_19,
-                     SECTION_20, SECTION_21, SECTION_22, SECTION_23):
+                     SECTION_20, SECTION_21, SECTION_22, SECTION_23, SECTION_24, SECTION_25, SECTION_26, SECTION_27,
+                     SECTION_28):
             run_examples(self, text, names)
 
 
