@@ -219,7 +219,6 @@ class HomeCase:
 
     def __init__(self, parts):
         self.men = len(parts[0][1])
-        self.rows = []
         try:
             self.rows = WholeRun(parts[0]).rows
         except Unfit:

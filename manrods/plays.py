@@ -34,10 +34,22 @@ class Books:
         self.man_ways[man][way] += 1
         self.stride_ways[min(level, behind)][way] += 1
 
-    def book_steam(self, ahead, more, left):
-        """Book that there was so much ahead, then more, of which so much is left."""
+    def book_let(self, number, amount):
+        """Book that so much was let out of this CISTERN."""
+        self.let[number] += amount
+
+    def book_water(self, sprung, brought, spilt):
+        """Book the water of a rest."""
+        _add(self.came, sprung)
+        _add(self.lifted, brought)
+        _add(self.spilt, spilt)
+        self.outs.append(brought[-1])
+
+    def book_steam(self, ahead, spent, more, left):
+        """Book that of so much ahead so much was spent, then came more, and so much is left."""
+        self.spent += spent
         self.given += more
-        self.over += ahead + more - left
+        self.over += ahead - spent + more - left
 
 
 class Play:
@@ -103,12 +115,12 @@ class Play:
         held[number] -= amount
         held[number - 1] += amount
         self.held = tuple(held)
-        self.books.let[number] += amount
+        self.books.book_let(number, amount)
 
     def stoke(self, amount):
         """Let there be so much more steam, at most the room."""
         steam = min(self.mine[3][0], self.steam + amount)
-        self.books.book_steam(self.steam, amount, steam)
+        self.books.book_steam(self.steam, 0, amount, steam)
         self.steam = steam
 
     def aims_by(self, deed):
@@ -150,11 +162,10 @@ class Play:
         """Let the water of this rest be done, waters having the springs that there are now."""
         told = water_told(waters, self.held, self.rest, self.made, self.moved, self.loose, leaks)
         self.held, brought, spilt = told
-        _add(self.books.lifted, brought)
-        _add(self.books.spilt, spilt)
-        self.books.outs.append(brought[-1])
+        sprung = dry_held(waters)
         if self.rest % 2 == 1:
-            _add(self.books.came, [cistern[2] for cistern in waters])
+            sprung = [cistern[2] for cistern in waters]
+        self.books.book_water(sprung, brought, spilt)
 
     def burn(self, spent):
         """Let there be the steam behind this rest, whose stroke took so much."""
@@ -162,8 +173,7 @@ class Play:
             return
         stokes = self.mine[3][2]
         steam = steam_behind(self.mine, self.rest, self.steam, spent)
-        self.books.spent += spent
-        self.books.book_steam(self.steam - spent, stokes[self.rest % len(stokes)], steam)
+        self.books.book_steam(self.steam, spent, stokes[self.rest % len(stokes)], steam)
         self.steam = steam
 
 

@@ -38,6 +38,13 @@ def _agree(place, aim):
     return place != LOST or aim is None
 
 
+def _has_room(shaft, place, many):
+    """Whether so many can have this PLACE."""
+    if is_rider(place):
+        return many == 1
+    return place[0] != "aside" or many <= shaft[2][place[1]]
+
+
 def is_crowd(thing, shaft, made):
     """Whether thing is a CROWD of shaft at made."""
     if not is_tuple(thing, 2) or not isinstance(thing[0], tuple):
@@ -49,9 +56,10 @@ def is_crowd(thing, shaft, made):
         return False
     if not all([_agree(place, aim) for place, aim in zip(men, aims)]):
         return False
-    if any([is_rider(place) and men.count(place) > 1 for place in men]):
-        return False
-    return all([_aside_at(men, level) <= shaft[2][level] for level in range(1, shaft[0] + 1)])
+    counts = {}
+    for place in men:
+        counts[place] = counts.get(place, 0) + 1
+    return all([_has_room(shaft, place, many) for place, many in counts.items()])
 
 
 def first_crowd(book):

@@ -2,7 +2,7 @@
 
 from math import lcm
 
-from manrods.basics import is_count, is_number, is_tuple, tupled
+from manrods.basics import is_count, is_number, is_tuple
 from manrods.errors import NoPlace, TooMuch
 from manrods.mines import first_standing, play_from
 from manrods.rests import is_rider
@@ -73,7 +73,7 @@ class LongRun:
     """
 
     def __init__(self, mine, book, faults):
-        play = play_from(mine, faults, first_standing(tupled(mine), tupled(book)))
+        play = play_from(mine, faults, first_standing(mine, book))
         watch = Watch(play.mine, play.faults)
         self.rows, self.outs = [play.standing()], [0]
         lead = watch.earlier(self.rows[0])
@@ -162,34 +162,21 @@ def adit_far(mine, book, faults, rest):
     return LongRun(mine, book, faults).out_at(rest)
 
 
-def _first_rests(run, least):
-    """The list of the numbers of rests, one at most for each row, behind which the sump first holds least."""
-    found = [rests for rests, row in enumerate(run.rows) if row[2][0] >= least]
-    if found or run.growth() == 0:
-        return found
-    for near, row in enumerate(run.turning()):
-        rounds = -((row[2][0] - least) // run.growth())
-        found.append(run.lead + near + rounds * run.length)
-    return found
-
-
 def drowned_from(mine, book, faults, level):
     """The least number of rests behind which level is drowned; None if it never is."""
     deep = mine[0][0]
     if not is_number(level) or not 0 <= level <= deep:
         raise NoPlace(level)
-    run = LongRun(mine, book, faults)
-    if level == 0:
-        return None
-    return min(_first_rests(run, mine[2] * (deep - level + 1)), default=None)
+    # A ROUND that grows shows itself only where the sump holds the brim, which drowns all levels but the grass.
+    rows = LongRun(mine, book, faults).rows
+    least = mine[2] * (deep - level + 1)
+    return min([rests for rests, row in enumerate(rows) if level > 0 and row[2][0] >= least], default=None)
 
 
 def for_good(mine, book, faults):
     """The set of the levels that are drowned behind each number of rests from some one on."""
-    run, deep = LongRun(mine, book, faults), mine[0][0]
-    if run.growth() > 0:
-        return tuple(range(1, deep + 1))
-    return drowned_levels(deep, mine[2], min([row[2] for row in run.turning()]))
+    least = min([row[2] for row in LongRun(mine, book, faults).turning()])
+    return drowned_levels(mine[0][0], mine[2], least)
 
 
 def last_place(mine, book, faults, man):

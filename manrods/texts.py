@@ -2,8 +2,8 @@
 
 from manrods.deeds import is_deed
 from manrods.errors import BadLine
-from manrods.lines import (
-    FAULT_LINES, RIDE_LINE, Reader, deed_in, deed_line, fault_in, filled, numbers_behind, numbers_in, ride_in)
+from manrods.lines import FAULT_LINES, RIDE_LINE, Reader, deed_in, deed_line, fault_in, filled
+from manrods.lines import numbers_behind, numbers_in, ride_in
 from manrods.wear import is_fault
 
 CISTERN_LINE = "cistern N: room N, spring N, measure N, rod N"

@@ -96,7 +96,7 @@ class Against(unittest.TestCase):
     def test_against_model(self):
         dice = dice_of("board")
         counts = {}
-        for _ in range(250):
+        for _ in range(350):
             mine, book = random_staff(dice, most=4)
             faults = random_faults(dice, mine)
             board, model = Board(mine, book, faults), Model(mine, book, faults)
@@ -323,6 +323,11 @@ class Same(unittest.TestCase):
                 Board(PIT, ((2, 0, 0),), (("valve", 0, 1, 900),))):
             self.assertFalse(one == other)
             self.assertTrue(one != other)
+        # Called to the same level he stands alike, but his RIDE was another one.
+        other = Board(PIT, ((2, 1, 0),), ())
+        other.board(0, 0)
+        self.assertEqual(other.standing(), one.standing())
+        self.assertFalse(one == other)
 
     def test_twins(self):
         board = Board(MILL, BOOK, FAULTS)

@@ -411,6 +411,8 @@ class Papers(unittest.TestCase):
             self.assertIs(is_paper_against(stuck, thing), False)
         self.assertIs(is_so(("home", stuck[1][:4] + (5,))), True)
         self.assertEqual([is_paper_against(("home", DIG), thing) for thing in (0, 1, -1, False, ())], [True] + [False] * 4)
+        one_of_two = ("home", (PIT, ((2, 0, 0), (1, 3, 0), (3, 0, 9)), (), (), 6))
+        self.assertEqual([is_paper_against(one_of_two, man) for man in range(4)], [False, True, True, False])
         empty = ("home", (PIT, (), (), (), 0))
         self.assertEqual((is_so(empty), paper(empty), is_paper_for(empty, ())), (True, (), True))
         self.assertIs(is_paper_against(empty, ()), False)

@@ -227,6 +227,7 @@ class Language(unittest.TestCase):
                     methods.update({word: name for word in found})
                 if isinstance(node, ast.Attribute) and isinstance(node.ctx, ast.Store):
                     attributes[node.attr] = name
+                    self.assertIsInstance(node.value, ast.Name, (name, node.lineno))
         self.assertEqual(sorted(set(methods) & set(attributes)), [])
         for name, tree in self.each_tree():
             for node in ast.walk(tree):

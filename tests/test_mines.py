@@ -168,6 +168,14 @@ class Things(unittest.TestCase):
         self.assertIs(is_run((MILL, book + ((3, 0, 9),), (), (), 1)), False)
         self.assertIs(is_run((MILL, ((1, 0, 0),) * 2, (), (), 1)), False)
 
+    def test_of_any_size(self):
+        deep, many = 3000, 20000
+        great = ((deep, True, (many,) * (deep + 1)), ((deep, 0, 0, 1, 0),), 1, None)
+        book = tuple([(1 + man % deep, 0, man) for man in range(many)])
+        self.assertIs(is_run((great, book, (), (), 0)), True)
+        self.assertIs(is_run((great, book, (), ((0, ("bell",)),) * many, 0)), True)
+        self.assertIs(is_run((((deep, True, (6,) * (deep + 1)), *great[1:]), book, (), (), 0)), False)
+
     def test_told_deeds(self):
         good = [
             ("board", 0, 0), ("board", 2, 4), ("aside", 2), ("couple", 1, True), ("cock", 0, 9), ("stoke", 1), ("mend", 2),
@@ -546,8 +554,9 @@ class Manners(unittest.TestCase):
         check_manners(self, first_standing, {"mine": mine, "book": book})
         for deed in (("board", 1, 2), ("aside", 1), ("couple", 0, False), ("stoke", 3)):
             check_manners(self, can_do, {"mine": mine, "faults": faults, "standing": STANDING, "deed": deed})
-            named = {"mine": mine, "faults": faults, "standing": STANDING, "deeds": (deed, ("bell",))}
-            check_manners(self, rest_done, named)
+            for own in (faults, (("platform", (1, 3), 0), ("spring", 0, 1, 0), ("valve", 1, 1, 0))):
+                named = {"mine": mine, "faults": own, "standing": STANDING, "deeds": (deed, ("bell",))}
+                check_manners(self, rest_done, named)
         # A cock cannot be done at rest 2 of RUN.
         good = (mine, book, faults, (TOLD[0],) + TOLD[2:], many)
         for run in (RUN, good):

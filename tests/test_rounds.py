@@ -219,6 +219,16 @@ class TooFar(unittest.TestCase):
             else:
                 self.assertEqual(round_of(NARROW, book, ()), (last + 5, 2, 0))
 
+    def test_who_is_ready_just_now_is_not_to_come(self):
+        # Both PLATFORMS that he could board are broken, so nothing but his ready counts.
+        faults = (("platform", (0, 3), 0), ("platform", (1, 4), 0))
+        for last, much in ((3997, False), (3998, False), (3999, True)):
+            book = ((4, 0, last),)
+            if much:
+                self.check_too_much(NARROW, book, faults)
+            else:
+                self.assertEqual(round_of(NARROW, book, faults), (0, 2, 0))
+
     def test_faults_far_away(self):
         for since, much in ((3997, False), (3998, False), (3999, True), (10 ** 6, True)):
             faults = (("platform", (0, 1), since),)

@@ -309,7 +309,12 @@ class Men(unittest.TestCase):
             still = (mine[0], ((mine[0][0], 0, 0, 1, 0),), 1, None)
             self.assertEqual(far_standing(still, book, (), 10 ** 12)[4:6], crowd_far(mine[0], book, day, 10 ** 12))
             lead, length, growth = round_of(still, book, ())
-            self.assertEqual((max(1, lead), length, growth), (*day_round(mine[0], book, day), 0))
+            many, own = day_round(mine[0], book, day)
+            self.assertEqual((length, growth), (own, 0))
+            # By how much a ready is above made is seen there, even of one who never boards.
+            self.assertLessEqual(lead, many)
+            if all([ride[2] == 0 for ride in book]):
+                self.assertEqual(max(1, lead), many)
 
     def test_slots(self):
         dice = dice_of("slots")
